@@ -1,0 +1,35 @@
+package local
+
+// meter counts steps against a budget.
+type meter struct{ used, budget int }
+
+// left is how many steps there may still be.
+func (m *meter) left() int { return m.budget - m.used }
+
+// spend counts some steps. It counts none of them, and answers false, if they are too many.
+func (m *meter) spend(steps int) bool {
+	if steps > m.left() {
+		return false
+	}
+	m.used += steps
+	return true
+}
+
+// most is what stands for the numbers above it.
+const most = 1 << 62
+
+// times multiplies two numbers from 0 to most.
+func times(a, b int) int {
+	if b != 0 && a > most/b {
+		return most
+	}
+	return a * b
+}
+
+// plus adds two numbers from 0 to most.
+func plus(a, b int) int {
+	if a > most-b {
+		return most
+	}
+	return a + b
+}
