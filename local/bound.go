@@ -4,6 +4,7 @@ import (
 	"slices"
 
 	"wattle/api"
+	"wattle/bounds"
 	"wattle/solve"
 )
 
@@ -14,14 +15,14 @@ func Bound(list []api.Atom) int {
 	}
 	all, letters := groups(list), 1
 	for _, g := range all {
-		letters = times(letters, g.most())
+		letters = bounds.Times(letters, g.most())
 	}
-	out := plus(times(4, letters), 1)
-	if out == most {
-		return most // ahead of layer 7's Bounds, since there may be far too many conditions to ask it about
+	out := bounds.Plus(bounds.Times(4, letters), 1)
+	if out == bounds.Most {
+		return out // ahead of layer 7's Bounds, since there may be far too many conditions to ask it about
 	}
 	for _, g := range all {
-		out = plus(out, times(g.solving(), 2))
+		out = bounds.Plus(out, bounds.Times(g.solving(), 2))
 	}
 	return out
 }
@@ -30,15 +31,15 @@ func Bound(list []api.Atom) int {
 func (g group) most() int {
 	switch g.kind {
 	case api.AtomType:
-		return times(len(g.names())+1, len(g.spaces())+1)
+		return bounds.Times(len(g.names())+1, len(g.spaces())+1)
 	case api.AtomAttr:
 		out := 1
 		spots, free := g.spots()
 		for _, s := range spots {
-			out = times(out, vectors(len(s.atoms)+len(free)))
+			out = bounds.Times(out, vectors(len(s.atoms)+len(free)))
 		}
 		for range free {
-			out = times(out, vectors(len(free)))
+			out = bounds.Times(out, vectors(len(free)))
 		}
 		return out
 	}
@@ -46,7 +47,7 @@ func (g group) most() int {
 }
 
 // vectors is how many rows there may be of some conditions at one place: without the attribute, and with it.
-func vectors(size int) int { return plus(1<<min(size, 62), 1) }
+func vectors(size int) int { return bounds.Plus(1<<min(size, 62), 1) }
 
 // solving is layer 7's Bounds of all places of an attribute's name together.
 func (g group) solving() int {
@@ -56,10 +57,10 @@ func (g group) solving() int {
 	out := 0
 	spots, free := g.spots()
 	for _, s := range spots {
-		out = plus(out, solve.Bound(g.conds(slices.Concat(s.atoms, free))))
+		out = bounds.Plus(out, solve.Bound(g.conds(slices.Concat(s.atoms, free))))
 	}
 	for range free {
-		out = plus(out, solve.Bound(g.conds(free)))
+		out = bounds.Plus(out, solve.Bound(g.conds(free)))
 	}
 	return out
 }

@@ -4,6 +4,7 @@ import (
 	"cmp"
 
 	"wattle/api"
+	"wattle/bounds"
 )
 
 // letters gives all that comes of the groups' rows together, if there are steps enough.
@@ -13,7 +14,7 @@ func letters(list []api.Atom, m *meter) ([]api.Letter, bool) {
 	for i, g := range all {
 		var ok bool
 		rows[i], ok = g.rows(m)
-		total = times(total, len(rows[i]))
+		total = bounds.Times(total, len(rows[i]))
 		if !ok || total > m.left() { // known as soon as it is too much: each group has one row at least
 			return nil, false
 		}

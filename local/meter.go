@@ -14,22 +14,3 @@ func (m *meter) spend(steps int) bool {
 	m.used += steps
 	return true
 }
-
-// most is what stands for the numbers above it.
-const most = 1 << 62
-
-// times multiplies two numbers from 0 to most.
-func times(a, b int) int {
-	if b != 0 && a > most/b {
-		return most
-	}
-	return a * b
-}
-
-// plus adds two numbers from 0 to most.
-func plus(a, b int) int {
-	if a > most-b {
-		return most
-	}
-	return a + b
-}
