@@ -125,7 +125,7 @@ func TestThinWitness(t *testing.T) {
 // P18.4, P18.5: many lists, and what is wanted of them by any rows.
 func TestManyWitnesses(t *testing.T) {
 	long := map[int]int{}
-	for seed := range uint32(700) {
+	for seed := range uint32(350) {
 		m := &maker{seed: seed, rich: seed%2 == 1}
 		a, b, names := m.two()
 		if !isSmall(questions(a, b, names)[3]) {
@@ -147,7 +147,7 @@ func TestManyWitnesses(t *testing.T) {
 			long[len(witness(t, p, wants).Doc)]++
 		}
 	}
-	for many, least := range []int{450, 650, 120, 60, 15} {
+	for many, least := range []int{200, 300, 50, 20, 5} {
 		if long[many] < least {
 			t.Errorf("just %d have %d elements", long[many], many)
 		}
