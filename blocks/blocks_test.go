@@ -214,6 +214,34 @@ func TestValue(t *testing.T) {
 	}
 }
 
+// P19.1: of an empty part the place as it was handed in, also one ahead of the list's beginning; of others that counts as 0.
+func TestValueOfAnEmptyPart(t *testing.T) {
+	for _, list := range [][]api.Token{nil, {}, row("E"), row("Ea"), row("a"), row("(a)a"), row(" ")} {
+		ends := []int{math.MinInt, -2, -1, 0}
+		if len(list) == 0 || list[0].Kind == api.TokEnd {
+			ends = append(ends, 1, 2, 9, math.MaxInt)
+		}
+		for _, at := range []int{math.MinInt, -5, -2, -1, 0} {
+			for _, to := range ends {
+				if got := blocks.Value(list, at, to); got != at {
+					t.Errorf("%v, %d to %d: %d", list, at, to, got)
+				}
+			}
+		}
+	}
+	for _, x := range []struct {
+		in           string
+		at, to, want int
+	}{
+		{"a", -1, 1, 1}, {"a", -1, 9, 1}, {"aE", math.MinInt, math.MaxInt, 1}, {"(a)a", -3, 9, 3}, {"(a)a", -3, 2, 2}, {" ", -1, 1, 1},
+		{"a", 1, 0, 1}, {"a", 1, 9, 1}, {"a", 2, 9, 2}, {"aEa", 1, 9, 1}, {"aEa", 2, 1, 2},
+	} {
+		if got := blocks.Value(row(x.in), x.at, x.to); got != x.want {
+			t.Errorf("%q, %d to %d: %d, not %d", x.in, x.at, x.to, got, x.want)
+		}
+	}
+}
+
 // P19.1: parts without the blanks around them.
 func TestTrim(t *testing.T) {
 	for _, x := range []struct {
@@ -255,7 +283,7 @@ func TestParts(t *testing.T) {
 		{13, 15, "", "", "14", "13-15"},
 		{5, 5, "", "", "5", "5-5"}, {5, 4, "", "", "5", "5-5"}, {5, -1, "", "", "5", "5-5"}, {5, math.MinInt, "", "", "5", "5-5"},
 		{16, 16, "", "", "16", "16-16"}, {17, 18, "", "", "17", "17-17"}, {math.MaxInt, math.MaxInt, "", "", "9223372036854775807", "9223372036854775807-9223372036854775807"}, {math.MaxInt, 3, "", "", "9223372036854775807", "9223372036854775807-9223372036854775807"},
-		{-1, 0, "", "", "0", "0-0"}, {-5, -3, "", "", "0", "0-0"}, {math.MinInt, math.MinInt, "", "", "0", "0-0"},
+		{-1, 0, "", "", "-1", "0-0"}, {-5, -3, "", "", "-5", "0-0"}, {-3, -5, "", "", "-3", "0-0"}, {math.MinInt, math.MinInt, "", "", "-9223372036854775808", "0-0"},
 	} {
 		for _, top := range []bool{false, true} {
 			if got := tellRules(blocks.Rules(list, x.from, x.to, top)); got != x.rules {

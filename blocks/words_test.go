@@ -186,11 +186,11 @@ func trimByWords(list []api.Token, from, to int) (int, int) {
 }
 
 func valueByWords(list []api.Token, at, to int) int {
-	list, at = part(list, at, to)
-	if at >= len(list) {
+	list, begin := part(list, at, to)
+	if begin >= len(list) {
 		return at
 	}
-	return component(list, at)
+	return component(list, begin)
 }
 
 // checkWords holds all calls against the words, and tells whether they agree.
